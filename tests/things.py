@@ -5,6 +5,13 @@ class Stranger:
     """A thing of which nothing at all is known."""
 
 
+class Flatterer:
+    """A thing that says of everything that it is equal to it."""
+
+    def __eq__(self, other):
+        return True
+
+
 def strangers():
     """Things that are no whole number, no part and no text of one."""
     return [
