@@ -82,6 +82,16 @@ def random_moments(seed, many, **how):
     return [random_moment(chance, **how) for turn in range(many)]
 
 
+def row_serving(moment, there, done):
+    """What is owed, as numbers, behind an evening at which those there served these pairs."""
+    duties = dict(done)
+    share = Fraction(sum(duties.values()), len(there))
+    return [
+        owes + share - duties.get(person, 0) if person in there else owes
+        for (person, before), owes in zip(moment[1], numbers(moment))
+    ]
+
+
 def random_evening(chance, moment):
     """Some of two or more persons that sit, and duties for them."""
     people = list(owed(moment))

@@ -6,7 +6,8 @@ from itertools import permutations, product
 from random import Random
 
 from tests.made import (
-    evenings_of, is_truly_moment, made, no_persons, numbers, owed, random_evening, seats_by_name, told, widest,
+    evenings_of, is_truly_moment, made, no_persons, numbers, owed, random_evening, row_serving, seats_by_name, told,
+    widest,
 )
 from tests.things import strangers
 from whoserves.errors import NoDuty, NoEvening
@@ -17,14 +18,14 @@ EVENINGS = evenings_of(10, 500)
 FIVE = made(7, "ann -2, - 1, bob 3, cid 0, dan -2")
 NO_THERE = (
     (), ("ann",), ("ann", "ann"), ("ann", "bob", "ann"), ("bob", "bob", "cid"), ("ann", "stranger"), ("ann", ""),
-    ("", ""), ("", "ann", "bob"), ["ann", "bob"], ["ann"], [], {"ann": 1, "bob": 2}, {"ann", "bob"}, "ann", "annbob", "ab",
-    ("ann", "Bob"), ("ann", "bob "), ("annbob",), (("ann", "bob"),), ("ann", ["bob"]), ("ann", ("bob",)), (0, 2),
+    ("", ""), ("", "ann", "bob"), ["ann", "bob"], ["ann"], [], {"ann": 1, "bob": 2}, {"ann", "bob"}, "ann", "annbob",
+    "ab", ("ann", "Bob"), ("ann", "bob "), ("annbob",), (("ann", "bob"),), ("ann", ["bob"]), ("ann", ("bob",)), (0, 2),
     ("ann", 2), ("ann", b"bob"), ("ann", True), ("ann", None), ("ann", {}), ("ann", {"bob"}), 2, b"ab",
 )
 NO_DUTIES = (
     (0,), (-1,), (8,), (10 ** 40,), (3, 0), (0, 3), (8, 3), (3, 8), (True,), (3, True), (False,), (1, 1, 1, 1),
-    (7,) * 9, ("3",), (None,), ((3,),), ((3, 1),), ([3],), [], [3], [3, 2], {3: 1}, {3}, "", "3", 0, 3, range(1, 3), b"\x01",
-    ("ann", 3), (("ann", 3),),
+    (7,) * 9, ("3",), (None,), ((3,),), ((3, 1),), ([3],), [], [3], [3, 2], {3: 1}, {3}, "", "3", 0, 3, range(1, 3),
+    b"\x01", ("ann", 3), (("ann", 3),),
 )
 
 
@@ -49,12 +50,7 @@ def serving(moment, there, duties):
 
 def row_behind(moment, there, duties):
     """What is owed behind, as numbers, by the words of 10."""
-    done = dict(serving(moment, there, duties))
-    share = Fraction(sum(duties), len(there))
-    return [
-        number + share - done.get(person, 0) if person in there else number
-        for (person, owes), number in zip(moment[1], numbers(moment))
-    ]
+    return row_serving(moment, there, serving(moment, there, duties))
 
 
 class TestInOrder(unittest.TestCase):

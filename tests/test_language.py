@@ -16,6 +16,9 @@ BUILTINS = set(
     " any all divmod ValueError KeyError IndexError LookupError ZeroDivisionError NotImplemented iter next".split()
 )
 BUILTIN_NAMES = set(dir(__builtins__) if not isinstance(__builtins__, dict) else __builtins__)
+AT_ONCE = ("zip", "enumerate", "reversed", "range")
+TAKERS = ("list", "tuple", "dict", "sorted", "sum", "any", "all", "enumerate", "zip", "min", "max")
+LIST_TAKERS = ("any", "all", "min", "max", "sum", "sorted")
 DOUBLE_UNDERSCORED = set("__init__ __eq__ __repr__ __str__ __len__ __iter__".split())
 BARRED_NODES = (
     ast.Global, ast.Import, ast.AsyncFunctionDef, ast.AsyncFor, ast.AsyncWith, ast.Await, ast.Div, ast.MatMult,
@@ -112,6 +115,24 @@ class TestLanguage(unittest.TestCase):
             for node in nodes(path):
                 if isinstance(node, ast.Name) and node.id in BUILTIN_NAMES:
                     self.assertIn(node.id, BUILTINS, (path.name, node.lineno))
+
+    def test_what_is_iterated_at_once_is_not_kept(self):
+        for path in FILES:
+            tree_nodes = nodes(path)
+            iterated = [node.iter for node in tree_nodes if isinstance(node, (ast.For, ast.comprehension))]
+            for node in tree_nodes:
+                if isinstance(node, ast.Call) and isinstance(node.func, ast.Name) and node.func.id in TAKERS:
+                    iterated += node.args
+            for node in tree_nodes:
+                if isinstance(node, ast.Call) and isinstance(node.func, ast.Name) and node.func.id in AT_ONCE:
+                    self.assertIn(node, iterated, (path.name, node.lineno))
+
+    def test_any_and_the_like_take_lists(self):
+        for path in FILES:
+            for node in nodes(path):
+                if isinstance(node, ast.Call) and isinstance(node.func, ast.Name) and node.func.id in LIST_TAKERS:
+                    for given in node.args:
+                        self.assertNotIsInstance(given, ast.GeneratorExp, (path.name, node.lineno))
 
     def test_is_stands_with_none_true_and_false(self):
         for path in FILES:

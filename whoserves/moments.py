@@ -1,8 +1,8 @@
 """Moments: a weight, and who sits on which seat and owes what."""
 
-from whoserves.errors import NoPerson, NoSeat, NoWeight
+from whoserves.errors import Beyond, NoPerson, NoSeat, NoWeight
 from whoserves.parts import is_part, is_whole, total
-from whoserves.sums import is_within
+from whoserves.sums import is_within, places_beyond
 
 EMPTY = ""
 
@@ -111,3 +111,11 @@ def check_seats(moment, seats):
         raise NoSeat("there is no seat of this number")
     if len(set(seats)) != len(seats):
         raise NoSeat("the numbers of seats are unlike")
+
+
+def check_within(moment, numbers):
+    """Refuses with Beyond, its seats by these numbers, where the row falls by the weight."""
+    weight = moment[0]
+    places = places_beyond(weight, owing(moment))
+    if places:
+        raise Beyond(len(places), tuple([numbers[place] for place in places]))

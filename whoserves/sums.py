@@ -43,3 +43,11 @@ def fall(weight, row):
 def is_within(weight, row):
     """Whether the row comes to nought and falls nowhere by the weight."""
     return total(row) == NOUGHT and fall(weight, row) is None
+
+
+def places_beyond(weight, row):
+    """The least many greatest places at which the row falls by the weight; none where it falls nowhere."""
+    many = fall(weight, row)
+    if many is None:
+        return []
+    return greatest_first(row)[:many]
