@@ -134,6 +134,48 @@ class TestLanguage(unittest.TestCase):
                     for given in node.args:
                         self.assertNotIsInstance(given, ast.GeneratorExp, (path.name, node.lineno))
 
+    def test_no_name_is_a_method_and_an_attribute(self):
+        methods, stored, read = set(), set(), set()
+        for path in FILES:
+            tree_nodes = nodes(path)
+            for node in tree_nodes:
+                if isinstance(node, ast.ClassDef):
+                    methods |= {one.name for one in node.body if isinstance(one, ast.FunctionDef)}
+            called = [node.func for node in tree_nodes if isinstance(node, ast.Call)]
+            for node in tree_nodes:
+                if isinstance(node, ast.Attribute):
+                    if isinstance(node.ctx, ast.Store):
+                        stored.add(node.attr)
+                    elif node not in called:
+                        read.add(node.attr)
+        self.assertEqual(methods & stored, set())
+        self.assertLessEqual(read, stored)
+
+    def test_no_list_is_sorted_in_place(self):
+        for path in FILES:
+            for node in nodes(path):
+                if isinstance(node, ast.Attribute):
+                    self.assertNotEqual(node.attr, "sort", (path.name, node.lineno))
+
+    def test_a_try_for_pythons_own_errors_has_one_call_alone(self):
+        for path in FILES:
+            for node in nodes(path):
+                if isinstance(node, ast.Try):
+                    caught = [one.type.id for one in node.handlers if isinstance(one.type, ast.Name)]
+                    self.assertEqual(len(caught), len(node.handlers), (path.name, node.lineno))
+                    if set(caught) & {"ValueError", "LookupError", "IndexError"}:
+                        names = [one.id for line in node.body for one in ast.walk(line) if isinstance(one, ast.Name)]
+                        self.assertLessEqual(set(names) & BUILTIN_NAMES, {"int"}, (path.name, node.lineno))
+                        kinds = (ast.Compare, ast.If, ast.While, ast.BoolOp, ast.IfExp, ast.comprehension, ast.Not)
+                        for one in [one for line in node.body for one in ast.walk(line)]:
+                            self.assertNotIsInstance(one, kinds, (path.name, node.lineno))
+
+    def test_behind_a_star_stands_a_name(self):
+        for path in FILES:
+            for node in nodes(path):
+                if isinstance(node, ast.Starred):
+                    self.assertIsInstance(node.value, ast.Name, (path.name, node.lineno))
+
     def test_is_stands_with_none_true_and_false(self):
         for path in FILES:
             for node in nodes(path):

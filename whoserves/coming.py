@@ -20,20 +20,22 @@ def seat_for(moment):
     return found
 
 
+def seated(moment, seat, person):
+    """The moment with this person, or with nobody, on that seat, which owes what it owed, a new one nought."""
+    weight, seats = moment
+    owed = seats[seat][1] if seat < len(seats) else NOUGHT
+    return (weight, seats[:seat] + ((person, owed),) + seats[seat + 1:])
+
+
 def with_person(moment, person):
     """The moment behind the person's coming."""
     if not is_name(person):
         raise NoName("a name is a text of one to eight small letters")
     if sits(moment, person):
         raise Taken(person)
-    seat = seat_for(moment)
-    weight, seats = moment
-    owed = seats[seat][1] if seat < len(seats) else NOUGHT
-    return (weight, seats[:seat] + ((person, owed),) + seats[seat + 1:])
+    return seated(moment, seat_for(moment), person)
 
 
 def without_person(moment, person):
-    """The moment behind the person's leaving: the seat owes what it owed."""
-    seat = seat_of(moment, person)
-    weight, seats = moment
-    return (weight, seats[:seat] + ((EMPTY, seats[seat][1]),) + seats[seat + 1:])
+    """The moment behind the person's leaving."""
+    return seated(moment, seat_of(moment, person), EMPTY)
