@@ -214,6 +214,24 @@ class Ledger:
         self.facts = facts
         return found
 
+    def stretch(self, first, last):
+        """For each seat what it served, its shares, what was given to it, and what it brought."""
+        states = self.states()
+        rows = [[Fraction(0)] * 4 for seat in states[last].names]
+        for state, fact in zip(states[first:last], self.facts[first:last]):
+            if fact[0] == "evening":
+                for seat, duty in fact[2]:
+                    rows[seat][0] += duty
+                    for other in fact[1]:
+                        rows[other][1] += Fraction(duty, len(fact[1]))
+            if fact[0] == "gift":
+                rows[fact[1]][2] -= number(fact[3])
+                rows[fact[2]][2] += number(fact[3])
+            if fact[0] == "join":
+                for place, (name, owes) in enumerate(fact[1]):
+                    rows[len(state.names) + place][3] = number(owes)
+        return [tuple(told(one) for one in row) for row in rows]
+
 
 def random_duties(chance, weight, many):
     """So many duties, some of them the greatest that there may be."""

@@ -5,60 +5,12 @@ from fractions import Fraction
 from itertools import combinations
 from random import Random
 
-from tests.ledger import PEOPLE, Ledger, outcome, random_deed, random_right
+from tests.ledger import PEOPLE
 from tests.made import is_truly_moment, number, numbers, owed
+from tests.walks import Walk
 from whoserves.clubs import Club
 from whoserves.moments import is_moment, kitty
 from whoserves.papers import is_paper, paper_holds, paper_of
-
-
-class Walk:
-    """A club and a ledger to which the same is done, and how often what came of it."""
-
-    def __init__(self, seed):
-        self.chance = Random(seed)
-        weight = self.chance.choice((1, 2, 5, 12, 10 ** 29 + 7))
-        # With few seats many an offer, and many a setting right, goes beyond.
-        self.most_seats = self.chance.choice((3, 4, 10))
-        self.club = Club(weight)
-        self.ledger = Ledger(weight)
-        self.outcomes = {}
-
-    def count(self, word, found):
-        """Counts what came of a word: told, or the kind of refusal."""
-        key = (word, found[0] if found[0] == "told" else found[1])
-        self.outcomes[key] = self.outcomes.get(key, 0) + 1
-
-    def deed(self):
-        """A deed that may come next."""
-        return random_deed(self.chance, self.ledger.states()[-1], most_seats=self.most_seats)
-
-    def step(self, test):
-        """Does something to both: they tell the same, or refuse it alike."""
-        choice = self.chance.random()
-        if choice < 0.8:
-            deed = self.deed()
-            word, found, own = deed[0], outcome(self.club.do, deed), outcome(self.ledger.do, deed)
-        elif choice < 0.9:
-            right = random_right(self.chance, self.ledger)
-            word, found, own = "right", outcome(self.club.set_right, *right), outcome(self.ledger.set_right, *right)
-        elif choice < 0.95:
-            many = self.chance.choice((0, 1, 1, 2, 3, 200))
-            word, found, own = "back", outcome(self.club.back, many), outcome(self.ledger.back, many)
-        else:
-            deeds = [self.deed() for turn in range(self.chance.randint(0, 4))]
-            word, found, own = "all", outcome(self.club.do_all, deeds), outcome(self.ledger.do_all, deeds)
-        test.assertEqual(found, own)
-        self.count(word, found)
-
-    def check(self, test):
-        """That both tell alike of the whole history."""
-        moments = [state.moment() for state in self.ledger.states()]
-        test.assertEqual(self.club.facts(), self.ledger.facts)
-        test.assertEqual([self.club.moment(at) for at in range(len(moments))], moments)
-        test.assertEqual(self.club.moment(), moments[-1])
-        test.assertEqual(len(self.club), len(self.ledger.facts))
-        test.assertEqual(self.club.payments(), self.ledger.payments())
 
 
 class TestHistories(unittest.TestCase):
@@ -85,9 +37,7 @@ class TestHistories(unittest.TestCase):
 
     def test_each_moment_is_one_and_its_paper_shows_it(self):
         for seed in range(100, 115):
-            walk = Walk(seed)
-            for turn in range(90):
-                walk.step(self)
+            walk = Walk(seed).go(self, 90)
             for at in range(len(walk.club) + 1):
                 moment = walk.club.moment(at)
                 self.assertTrue(is_truly_moment(moment))
@@ -95,11 +45,25 @@ class TestHistories(unittest.TestCase):
                 self.assertIs(paper_holds(moment[0], paper_of(moment)), True)
                 self.assertIs(is_paper(moment, paper_of(moment)), True)
 
+    def test_each_k_of_the_seats_the_kitty_and_each_seat_at_each_moment(self):
+        for seed in range(150, 190):
+            club = Walk(seed).go(self, 100).club
+            for at in range(len(club) + 1):
+                weight, seats = club.moment(at)
+                row = sorted(numbers(club.moment(at)))
+                self.assertEqual(sum(row, Fraction(0)), 0)
+                for many in range(len(row) + 1):
+                    most = Fraction(weight * many * (len(row) - many), 2)
+                    self.assertLessEqual(sum(row[len(row) - many:], Fraction(0)), most)
+                    self.assertGreaterEqual(sum(row[:many], Fraction(0)), -most)
+                empty = len(seats) - len(owed(club.moment(at)))
+                held = number(kitty(club.moment(at)))
+                self.assertLessEqual(abs(held), Fraction(weight * empty * (len(seats) - empty), 2))
+                self.assertTrue(all(abs(one) <= Fraction(weight * (len(row) - 1), 2) for one in row))
+
     def test_any_seats_owe_and_are_owed_the_most_at_the_most(self):
         for seed in range(200, 206):
-            walk = Walk(seed)
-            for turn in range(60):
-                walk.step(self)
+            walk = Walk(seed).go(self, 60)
             for at in range(0, len(walk.club) + 1, 4):
                 moment = walk.club.moment(at)
                 row = numbers(moment)
